@@ -1,0 +1,1 @@
+"""Pagelodge: copies of a source's pages, kept in lodges on the way to who asks."""

@@ -1,0 +1,74 @@
+"""What several tests need: odd things, an alphabet, and a plain model of stretches and parts."""
+
+GREATEST = 10 ** 60 - 1
+FAR = 10 ** 59
+
+PRINTABLE = [chr(code) for code in range(32, 127)]
+# Signs that a check for letters or figures by Python's own notion of them would let pass.
+ODD_SIGNS = ["\n", "\t", "\r", "\0", "\x7f", "\x85", "\xa0", "\xe9", "\xdf", "\xb2", "\xb5", "\u0131",
+             "\u0663", "\u0966", "\u2028", "\u2044", "\uff10", "\uff41", "\uff0f", "\ud800", "\U0001d7d8"]
+ALPHABET = PRINTABLE + ODD_SIGNS
+
+
+class Stubborn:
+    """An object that can neither be compared, counted, hashed, gone through nor shown."""
+
+    def refuse(self, *rest):
+        raise RuntimeError("looked into")
+
+    __eq__ = __ne__ = __lt__ = __hash__ = __len__ = __iter__ = __getitem__ = refuse
+    __contains__ = __bool__ = __str__ = __repr__ = refuse
+
+
+def no_texts():
+    """Things of many kinds, none of them a text."""
+    return [None, True, False, 0, 1, -1, 10 ** 70, 1.5, float("nan"), 1j, b"", b"a", b"0", b"s0", bytearray(b"a"),
+            [], ["a"], ["a", "b"], (), ("a",), ("s", "0"), {}, {"a": "b"}, {"a"}, frozenset("a"), range(3),
+            object(), str, len, lambda: "a", iter("a"), Stubborn()]
+
+
+def off_by_one(text):
+    """The texts that one sign put in, exchanged or taken out makes of a text: ahead, amid and behind."""
+    made = []
+    for at in {0, len(text) // 2, len(text)}:
+        made += [text[:at] + sign + text[at:] for sign in ALPHABET]
+    for at in {0, len(text) // 2, len(text) - 1}:
+        if 0 <= at < len(text):
+            made += [text[:at] + sign + text[at + 1:] for sign in ALPHABET]
+            made.append(text[:at] + text[at + 1:])
+    return made
+
+
+# The model: a set of places for stretches, a dict of places and signs for parts.
+
+def runs(places):
+    """The places in groups that follow on each other."""
+    found = []
+    for place in sorted(places):
+        if found and found[-1][-1] + 1 == place:
+            found[-1].append(place)
+        else:
+            found.append([place])
+    return found
+
+
+def as_stretches(places):
+    return [(run[0], run[-1] + 1) for run in runs(places)]
+
+
+def as_parts(known):
+    return [(run[0], "".join(known[place] for place in run)) for run in runs(known)]
+
+
+def subsets(count):
+    """All sets of places below count."""
+    return [{place for place in range(count) if mask >> place & 1} for mask in range(2 ** count)]
+
+
+def moved(pairs, by):
+    """Stretches moved on by so many places."""
+    return [(start + by, stop + by) for start, stop in pairs]
+
+
+def moved_parts(parts, by):
+    return [(start + by, signs) for start, signs in parts]

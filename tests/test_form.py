@@ -1,0 +1,110 @@
+"""The interface as DOC.md lists it, and those rules of LANGUAGE.md that a look at the files can tell."""
+
+import ast
+import importlib
+import inspect
+import pathlib
+import re
+import unittest
+
+PACKAGE = pathlib.Path(__file__).resolve().parent.parent / "pagelodge"
+FILES = sorted(PACKAGE.glob("*.py"))
+
+INTERFACE = {
+    "words": {"is_name": "text", "is_worth": "text", "is_path": "text", "is_figures": "text", "is_mark": "text",
+              "heads_row": "heads", "worth_of": "row, name"},
+    "spans": {"read_spans": "text", "show_spans": "spans", "stretches": "spans, size", "joined": "ones, others",
+              "lacking": "wanted, parts", "cut": "parts, wanted", "parts_of": "text", "weight": "parts"},
+}
+BARRED_WORDS = re.compile(r"\b(type|typing|typing_extensions|enum|Enum|IntEnum|StrEnum|Flag|IntFlag|Generic|Protocol|"
+                          r"ABC|ABCMeta|namedtuple|NamedTuple|TypedDict|TYPE_CHECKING|abstractmethod)\b|"
+                          r"dataclass|overload|contextmanager")
+BUILTINS = set("""len range enumerate zip min max sum abs sorted reversed int str bool bytes list tuple dict set
+    frozenset isinstance ord repr any all divmod iter next super ValueError""".split())
+
+
+def names_read(tree):
+    return {node.id for node in ast.walk(tree) if isinstance(node, ast.Name) and isinstance(node.ctx, ast.Load)}
+
+
+def names_bound(tree):
+    """All names that a file binds: by assignments, parameters, imports, functions and classes."""
+    bound = set()
+    for node in ast.walk(tree):
+        if isinstance(node, ast.Name) and not isinstance(node.ctx, ast.Load):
+            bound.add(node.id)
+        elif isinstance(node, ast.arg):
+            bound.add(node.arg)
+        elif isinstance(node, (ast.FunctionDef, ast.ClassDef)):
+            bound.add(node.name)
+        elif isinstance(node, ast.ImportFrom):
+            bound.update(alias.asname or alias.name for alias in node.names)
+    return bound
+
+
+class Interface(unittest.TestCase):
+    def test_functions_stand_in_their_files_with_their_arguments(self):
+        for module, functions in INTERFACE.items():
+            loaded = importlib.import_module(f"pagelodge.{module}")
+            for name, arguments in functions.items():
+                with self.subTest(module, name=name):
+                    function = getattr(loaded, name)
+                    self.assertEqual(function.__module__, f"pagelodge.{module}")
+                    self.assertEqual(str(inspect.signature(function)), f"({arguments})")
+
+
+class Form(unittest.TestCase):
+    def test_the_folder_has_plain_files_alone(self):
+        for path in PACKAGE.iterdir():
+            if path.name != "__pycache__":
+                self.assertRegex(path.name, r"\A[a-z0-9_]+\.py\Z")
+        self.assertTrue((PACKAGE / "__init__.py").is_file())
+
+    def test_characters_and_sizes(self):
+        for path in FILES:
+            text = path.read_bytes().decode("utf-8")
+            rows = text.split("\n")
+            self.assertRegex(text, r"\A[ -~\n]*\Z", path.name)
+            self.assertNotIn("%", text, path.name)
+            self.assertLessEqual(len(rows), 399, path.name)
+            self.assertLessEqual(max(len(row) for row in rows), 120, path.name)
+
+    def test_functions_are_short(self):
+        for path in FILES:
+            for node in ast.walk(ast.parse(path.read_text())):
+                if isinstance(node, ast.FunctionDef):
+                    self.assertLessEqual(node.end_lineno - node.lineno + 1, 40, f"{path.name} {node.name}")
+
+    def test_barred_words(self):
+        for path in FILES:
+            self.assertIsNone(BARRED_WORDS.search(path.read_text()), path.name)
+
+    def test_imports_are_from_the_package(self):
+        for path in FILES:
+            for node in ast.walk(ast.parse(path.read_text())):
+                self.assertNotIsInstance(node, ast.Import, path.name)
+                if isinstance(node, ast.ImportFrom):
+                    self.assertRegex(node.module, r"\Apagelodge\.[a-z_]+\Z", path.name)
+                    self.assertEqual(node.level, 0)
+
+    def test_names(self):
+        for path in FILES:
+            tree = ast.parse(path.read_text())
+            bound = names_bound(tree)
+            for name in bound:
+                if name != "__init__":
+                    self.assertRegex(name, r"\A[A-Za-z][A-Za-z0-9_]*\Z", path.name)
+            self.assertEqual(names_read(tree) - bound - BUILTINS, set(), path.name)
+            self.assertEqual(bound & BUILTINS, set(), path.name)
+
+    def test_each_function_has_a_docstring(self):
+        for path in FILES:
+            tree = ast.parse(path.read_text())
+            self.assertIsNotNone(ast.get_docstring(tree), path.name)
+            for node in tree.body:
+                if isinstance(node, (ast.FunctionDef, ast.ClassDef)):
+                    self.assertIsNotNone(ast.get_docstring(node), f"{path.name} {node.name}")
+
+
+if __name__ == "__main__":
+    unittest.main()
