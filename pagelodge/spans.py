@@ -1,7 +1,7 @@
 """Spans, the stretches that they tell in a text, and parts: what is known of a text."""
 
 from pagelodge.errors import NoSpan
-from pagelodge.words import is_figures
+from pagelodge.words import is_figures, is_whole
 
 
 def read_spans(text):
@@ -46,6 +46,19 @@ def are_ends(start, stop):
     if start is None:
         return stop is not None and stop > 0
     return stop is None or start < stop
+
+
+def is_span(thing):
+    """Whether a thing is a span."""
+    if not isinstance(thing, tuple) or len(thing) != 2:
+        return False
+    start, stop = thing
+    return is_bound(start) and is_bound(stop) and are_ends(start, stop)
+
+
+def is_bound(thing):
+    """Whether a thing may be an end of a span: a whole number from 0 on, or None."""
+    return thing is None or (is_whole(thing) and thing >= 0)
 
 
 def show_spans(spans):

@@ -1,4 +1,4 @@
-"""Names, worths, paths, figures, marks, and the row of heads."""
+"""Whole numbers, names, worths, paths, figures, marks, and the row of heads."""
 
 LETTERS = "abcdefghijklmnopqrstuvwxyz"
 FIGURES = "0123456789"
@@ -7,6 +7,11 @@ LONGEST_NAME = 8
 LONGEST_WORTH = 12
 MOST_NAMES = 4
 MOST_FIGURES = 60
+
+
+def is_whole(thing):
+    """Whether a thing is a whole number."""
+    return isinstance(thing, int) and not isinstance(thing, bool)
 
 
 def is_made_of(text, signs, least, most):
@@ -48,6 +53,11 @@ def is_mark(text):
     if not isinstance(text, str):
         return False
     return text[:1] in ("s", "w") and is_figures(text[1:])
+
+
+def is_strong(mark):
+    """Whether a mark is strong."""
+    return mark[0] == "s"
 
 
 def heads_row(heads):

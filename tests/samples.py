@@ -39,6 +39,29 @@ def off_by_one(text):
     return made
 
 
+RULE_FIELDS = {"keep": 0, "worn": 0, "alone": 0, "anew": False, "own": False, "common": False, "never": False,
+               "strict": False}
+WISH_FIELDS = {"atmost": None, "left": 0, "worn": 0, "anew": False, "kept": False, "firm": False}
+
+
+def kinds_and_fields(thing, names):
+    """The fields of an object with these names, each with its kind, as True and 1 would be taken for alike."""
+    return {name: (type(getattr(thing, name)), getattr(thing, name)) for name in names}
+
+
+def rule_fields(rule):
+    return kinds_and_fields(rule, RULE_FIELDS)
+
+
+def wish_fields(wish):
+    return kinds_and_fields(wish, WISH_FIELDS)
+
+
+def expected_fields(untold, told):
+    """What kinds_and_fields tells where just these fields are told."""
+    return {name: (type(worth), worth) for name, worth in {**untold, **told}.items()}
+
+
 # The model: a set of places for stretches, a dict of places and signs for parts.
 
 def runs(places):

@@ -15,7 +15,28 @@ INTERFACE = {
               "heads_row": "heads", "worth_of": "row, name"},
     "spans": {"read_spans": "text", "show_spans": "spans", "stretches": "spans, size", "joined": "ones, others",
               "lacking": "wanted, parts", "cut": "parts, wanted", "parts_of": "text", "weight": "parts"},
+    "settings": {"read_rule": "text", "read_wish": "text", "lets": "rule, wish, age",
+                 "serves": "rule, wish, age, *, alone=False"},
+    "asks": {"answered": "ask, mark, size, parts, *, age=0, count=0, rule=None, turns=(), tags=(), ground=()"},
 }
+RULE = "keep=0, worn=0, alone=0, anew=False, own=False, common=False, never=False, strict=False"
+WISH = "atmost=None, left=0, worn=0, anew=False, kept=False, firm=False"
+ANSWER = "mark=None, size=0, parts=(), age=0, count=0, rule=None, turns=(), tags=(), ground=()"
+# For each class: the arguments it is made with, its base, and its methods with theirs.
+CLASSES = {
+    ("settings", "Setting"): ("", "object", {"spelled": "", "both": "other"}),
+    ("settings", "Rule"): (f"*, {RULE}", "Setting", {"spelled": "", "both": "other"}),
+    ("settings", "Wish"): (f"*, {WISH}", "Setting", {"spelled": "", "both": "other"}),
+    ("pages", "Page"): ("text, *, rule='', turns=(), forms=(), tags=(), weak=False", "object",
+                        {"worths_for": "heads", "text_for": "heads", "told": ""}),
+    ("asks", "Ask"): ("path, *, heads=None, spans=(), unless=(), when=None, wish=''", "object",
+                      {"told": "", "wanted": "mark, size", "word_for": "mark, size"}),
+    ("asks", "Answer"): (f"word, *, {ANSWER}", "object", {"told": ""}),
+    ("source", "Source"): ("", "object",
+                           {"write": "path, page, *, on=None, by=None", "take_back": "*, paths=(), tags=()",
+                            "answer": "ask", "mark_for": "path, heads", "page_at": "path", "book": ""}),
+}
+DOUBLE_UNDERSCORED = {"__init__", "__str__"}
 BARRED_WORDS = re.compile(r"\b(type|typing|typing_extensions|enum|Enum|IntEnum|StrEnum|Flag|IntFlag|Generic|Protocol|"
                           r"ABC|ABCMeta|namedtuple|NamedTuple|TypedDict|TYPE_CHECKING|abstractmethod)\b|"
                           r"dataclass|overload|contextmanager")
@@ -51,6 +72,24 @@ class Interface(unittest.TestCase):
                     function = getattr(loaded, name)
                     self.assertEqual(function.__module__, f"pagelodge.{module}")
                     self.assertEqual(str(inspect.signature(function)), f"({arguments})")
+
+
+    def test_classes_stand_in_their_files_with_their_arguments(self):
+        for (module, name), (arguments, base, methods) in CLASSES.items():
+            with self.subTest(module, name=name):
+                made = getattr(importlib.import_module(f"pagelodge.{module}"), name)
+                self.assertEqual(made.__module__, f"pagelodge.{module}")
+                self.assertEqual(str(inspect.signature(made)), f"({arguments})")
+                self.assertEqual([each.__name__ for each in made.__bases__], [base])
+
+    def test_methods_stand_in_the_class_itself(self):
+        for (module, name), (arguments, base, methods) in CLASSES.items():
+            made = getattr(importlib.import_module(f"pagelodge.{module}"), name)
+            for method, handed in methods.items():
+                with self.subTest(name, method=method):
+                    self.assertIn(method, vars(made))
+                    self.assertEqual(str(inspect.signature(vars(made)[method])),
+                                     f"(self, {handed})" if handed else "(self)")
 
 
 class Form(unittest.TestCase):
@@ -92,10 +131,36 @@ class Form(unittest.TestCase):
             tree = ast.parse(path.read_text())
             bound = names_bound(tree)
             for name in bound:
-                if name != "__init__":
+                if name not in DOUBLE_UNDERSCORED:
                     self.assertRegex(name, r"\A[A-Za-z][A-Za-z0-9_]*\Z", path.name)
             self.assertEqual(names_read(tree) - bound - BUILTINS, set(), path.name)
             self.assertEqual(bound & BUILTINS, set(), path.name)
+
+    def test_no_name_is_a_method_and_an_attribute(self):
+        methods, assigned, read = set(), set(), set()
+        for path in FILES:
+            tree = ast.parse(path.read_text())
+            called = {node.func for node in ast.walk(tree) if isinstance(node, ast.Call)}
+            for node in ast.walk(tree):
+                if isinstance(node, ast.ClassDef):
+                    methods.update(row.name for row in node.body if isinstance(row, ast.FunctionDef))
+                elif isinstance(node, ast.Attribute) and isinstance(node.ctx, ast.Store):
+                    assigned.add(node.attr)
+                elif isinstance(node, ast.Attribute) and node not in called:
+                    read.add(node.attr)
+        self.assertEqual(methods & assigned, set())
+        self.assertEqual(read - assigned, set())
+
+    def test_no_parameter_or_variable_has_the_name_of_an_import_or_a_class(self):
+        for path in FILES:
+            tree = ast.parse(path.read_text())
+            fixed = {alias.asname or alias.name for node in tree.body if isinstance(node, ast.ImportFrom)
+                     for alias in node.names}
+            fixed |= {node.name for node in tree.body if isinstance(node, ast.ClassDef)}
+            local = {node.id for node in ast.walk(tree)
+                     if isinstance(node, ast.Name) and isinstance(node.ctx, ast.Store)}
+            local |= {node.arg for node in ast.walk(tree) if isinstance(node, ast.arg)}
+            self.assertEqual(fixed & local, set(), path.name)
 
     def test_each_function_has_a_docstring(self):
         for path in FILES:

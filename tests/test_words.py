@@ -4,8 +4,9 @@ import itertools
 import re
 import unittest
 
-from pagelodge.words import heads_row, is_figures, is_mark, is_name, is_path, is_worth, worth_of
-from tests.samples import ALPHABET, no_texts, off_by_one
+from pagelodge.words import (heads_row, is_figures, is_mark, is_name, is_path, is_strong, is_whole, is_worth,
+                             worth_of)
+from tests.samples import ALPHABET, GREATEST, no_texts, off_by_one
 
 PATTERNS = {
     is_name: "[a-z]{1,8}",
@@ -89,6 +90,22 @@ class Words(unittest.TestCase):
                 self.check(told, "s" + sign * length)
                 self.check(told, "a/" + sign * length)
                 self.check(told, "/".join([sign] * length))
+
+
+class NumbersAndMarks(unittest.TestCase):
+    def test_whole_numbers(self):
+        for number in (0, 1, -1, GREATEST, -GREATEST, 10 ** 70):
+            self.assertIs(is_whole(number), True)
+
+    def test_truths_and_other_things_are_none(self):
+        for thing in no_texts() + ["", "0", "1"]:
+            if type(thing) is not int:
+                self.assertIs(is_whole(thing), False)
+
+    def test_strong_marks(self):
+        for figures in ("0", "1", "10", SIXTY):
+            self.assertIs(is_strong("s" + figures), True)
+            self.assertIs(is_strong("w" + figures), False)
 
 
 class Heads(unittest.TestCase):
