@@ -195,8 +195,8 @@ class Reading(unittest.TestCase):
             number, truth = kind.numbers[0], kind.truths[0]
             wrong = [f"{name} {figures}" for name in kind.truths for figures in ("0", "1", SIXTY)] + kind.numbers
             wrong += [f"{number}  5", f"{number} 05", f"{number} 00", f"{number} 9{SIXTY}", f"{number} -5",
-                      f"{number} +5", f"{number} 5 5", f"{number} five", f"{number}5", f"{number}=5", f"{number}\t5", f"{number} 5\n",
-                      f"{number} 1_0", f"{number} 5.", f"{number} \u0665", f"{number.title()} 5", truth.title(),
+                      f"{number} +5", f"{number} 5 5", f"{number} five", f"{number}5", f"{number}=5", f"{number}\t5",
+                      f"{number} 5\n", f"{number} 1_0", f"{number} 5.", f"{number} \u0665", f"{number.title()} 5", truth.title(),
                       truth.upper(), f"{truth}\n", f"\t{truth}", f"{truth} {truth}", "5", "0", "abcdefghi",
                       "abcdefghi 5", "other  5", "other 05", f"other 9{SIXTY}", "other x", "Other", "oth-r", "a/b",
                       "x x", "xx x", "\xe9", "", " ", "   "]
