@@ -95,3 +95,32 @@ def moved(pairs, by):
 
 def moved_parts(parts, by):
     return [(start + by, signs) for start, signs in parts]
+
+
+# Lodges.
+
+def plain(deeds):
+    """What a lodge did, with its answers and asks as they are told."""
+    shown = []
+    for deed in deeds:
+        if deed[0] == "told":
+            shown.append(deed[:2] + (deed[2].told(),))
+        elif deed[0] == "asks":
+            shown.append(deed[:2] + (deed[2].told(),) + deed[3:])
+        else:
+            shown.append(deed)
+    return shown
+
+
+def who(number):
+    return ("asker", number)
+
+
+def fetched(lodge, source, asks):
+    """Lets a lodge ask a source for each of these at once, where it doesn't serve them; tells what it did then."""
+    deeds = []
+    for ask in asks:
+        for deed in lodge.asked(who(99), ask):
+            if deed[0] == "asks":
+                deeds += lodge.came(deed[1], source.answer(deed[2]))
+    return deeds
