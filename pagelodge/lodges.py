@@ -219,6 +219,10 @@ class Lodge:
         """The floors of the shelf."""
         return self.shelf.floors()
 
+    def is_out(self, errand):
+        """Whether the errand with this number is out."""
+        return errand in self.out
+
     def errands(self):
         """What each errand that is out tells, rising."""
         return [errand.told() for errand in self.out.values()]

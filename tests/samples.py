@@ -1,4 +1,7 @@
-"""What several tests need: odd things, an alphabet, and a plain model of stretches and parts."""
+"""What several tests need: odd things, an alphabet, a plain model of stretches and parts, drawn asks and pages."""
+
+from pagelodge.asks import Ask
+from pagelodge.pages import Page
 
 GREATEST = 10 ** 60 - 1
 FAR = 10 ** 59
@@ -124,3 +127,27 @@ def fetched(lodge, source, asks):
             if deed[0] == "asks":
                 deeds += lodge.came(deed[1], source.answer(deed[2]))
     return deeds
+
+
+# What is drawn: few paths, heads and texts, so that they meet.
+
+WISHES = ["", "", "", "anew", "atmost 2", "left 2", "worn 3", "kept", "firm", "worn 2, left 1", "atmost 4, firm"]
+RULES = ["", "keep 3", "keep 2, worn 2", "keep 9, strict", "keep 1, worn 5, alone 4", "anew, keep 9", "keep 4, alone 6",
+         "keep 5, own", "keep 5, common", "keep 5, never"]
+TEXTS = ["Some text", "some text", "other", "", "A longer text, this one"]
+
+
+def drawn_ask(chance):
+    heads = {name: chance.choice("xy") for name in ("lang", "who") if chance.random() < 0.25}
+    spans = chance.choice([[], [], [(0, 4)], [(2, 6), (None, 2)], [(3, None)], [(40, 50)]])
+    return Ask(chance.choice("ab"), heads=heads, spans=spans, unless=chance.choice([[], [], ["s0", "w0"], ["s1"]]),
+               when=chance.choice([None, None, None, "s0", "s1", "w0"]), wish=chance.choice(WISHES))
+
+
+def drawn_page(chance):
+    if chance.random() < 0.1:
+        return Page(None, rule=chance.choice(RULES), tags=chance.choice([[], ["t"]]))
+    turns = chance.choice([[], [], ["lang"], ["who", "lang"]])
+    forms = [(["x"] * len(turns), chance.choice(TEXTS))] if turns and chance.random() < 0.6 else []
+    return Page(chance.choice(TEXTS), rule=chance.choice(RULES), turns=turns, forms=forms,
+                tags=chance.choice([[], [], ["t"], ["t", "u"]]), weak=chance.random() < 0.3)

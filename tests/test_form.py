@@ -19,9 +19,13 @@ INTERFACE = {
                  "serves": "rule, wish, age, *, alone=False"},
     "asks": {"answered": "ask, mark, size, parts, *, age=0, count=0, rule=None, turns=(), tags=(), ground=()"},
     "copies": {"copy_of": "path, heads, answer, *, lodge=0, errand=0, since=0, held=None, others=()"},
+    "judging": {"judge": "book, asked, told, ask, answer"},
+    "texts": {"show_page": "path, page", "show_ask": "ask", "show_answer": "answer", "read_page": "text",
+              "read_ask": "text", "read_answer": "text"},
 }
 RULE = "keep=0, worn=0, alone=0, anew=False, own=False, common=False, never=False, strict=False"
 WISH = "atmost=None, left=0, worn=0, anew=False, kept=False, firm=False"
+HALL = "ups, *, kinds=(), rooms=(), clocks=()"
 LODGE = "number, *, room=None, clock=0"
 ANSWER = "mark=None, size=0, parts=(), age=0, count=0, rule=None, turns=(), tags=(), ground=()"
 # For each class: the arguments it is made with (None where they are free), its base, and its methods with theirs.
@@ -51,6 +55,14 @@ CLASSES = {
                            "copies": "", "floors": "", "errands": ""}),
     ("lodges", "OwnLodge"): (LODGE, "Lodge", {"may_keep": "ask, answer"}),
     ("lodges", "Door"): (LODGE, "Lodge", {"may_keep": "ask, answer"}),
+    ("halls", "Hall"): (HALL, "object",
+                        {"ask": "lodge, ask", "write": "lodge, path, page, *, on=None",
+                         "put": "path, page, *, tell=False", "take_back": "*, paths=(), tags=()", "come": "letter",
+                         "give_up": "lodge, errand", "wait": "ticks", "fall": "lodge", "calm": "", "happened": "",
+                         "letters": "", "answers": "", "book": "", "reasons": "lodge, ask", "copies": "lodge",
+                         "floors": "lodge", "errands": "lodge"}),
+    ("desk", "Desk"): (HALL, "object",
+                       {"say": "text", "store": "name, texts", "run": "texts", "journal": ""}),
 }
 DOUBLE_UNDERSCORED = {"__init__", "__str__"}
 BARRED_WORDS = re.compile(r"\b(type|typing|typing_extensions|enum|Enum|IntEnum|StrEnum|Flag|IntFlag|Generic|Protocol|"
@@ -65,7 +77,7 @@ def names_read(tree):
 
 
 def names_bound(tree):
-    """All names that a file binds: by assignments, parameters, imports, functions and classes."""
+    """All names that a file binds: by assignments, parameters, handlers, imports, functions and classes."""
     bound = set()
     for node in ast.walk(tree):
         if isinstance(node, ast.Name) and not isinstance(node.ctx, ast.Load):
@@ -73,6 +85,8 @@ def names_bound(tree):
         elif isinstance(node, ast.arg):
             bound.add(node.arg)
         elif isinstance(node, (ast.FunctionDef, ast.ClassDef)):
+            bound.add(node.name)
+        elif isinstance(node, ast.ExceptHandler) and node.name:
             bound.add(node.name)
         elif isinstance(node, ast.ImportFrom):
             bound.update(alias.asname or alias.name for alias in node.names)

@@ -6,17 +6,12 @@ import unittest
 from pagelodge.asks import Answer, Ask
 from pagelodge.copies import copy_of
 from pagelodge.lodges import Door, Lodge, OwnLodge
-from pagelodge.pages import Page
 from pagelodge.settings import lets, serves
 from pagelodge.shelves import Shelf
 from pagelodge.source import Source
-from tests.samples import plain, who
+from tests.samples import drawn_ask, drawn_page, plain, who
 
 KINDS = {"shared": Lodge, "own": OwnLodge, "door": Door}
-WISHES = ["", "", "", "anew", "atmost 2", "left 2", "worn 3", "kept", "firm", "worn 2, left 1", "atmost 4, firm"]
-RULES = ["", "keep 3", "keep 2, worn 2", "keep 9, strict", "keep 1, worn 5, alone 4", "anew, keep 9", "keep 4, alone 6",
-         "keep 5, own", "keep 5, common", "keep 5, never"]
-TEXTS = ["Some text", "some text", "other", "", "A longer text, this one"]
 
 
 class Model:
@@ -138,22 +133,6 @@ class Model:
     def errands(self):
         return [(errand["number"], "write" if errand["ask"] is None else "ask", errand["path"], errand["since"],
                  tuple(someone for someone, ask, since in errand["waits"])) for errand in self.out]
-
-
-def drawn_ask(chance):
-    heads = {name: chance.choice("xy") for name in ("lang", "who") if chance.random() < 0.25}
-    spans = chance.choice([[], [], [(0, 4)], [(2, 6), (None, 2)], [(3, None)], [(40, 50)]])
-    return Ask(chance.choice("ab"), heads=heads, spans=spans, unless=chance.choice([[], [], ["s0", "w0"], ["s1"]]),
-               when=chance.choice([None, None, None, "s0", "s1", "w0"]), wish=chance.choice(WISHES))
-
-
-def drawn_page(chance):
-    if chance.random() < 0.1:
-        return Page(None, rule=chance.choice(RULES), tags=chance.choice([[], ["t"]]))
-    turns = chance.choice([[], [], ["lang"], ["who", "lang"]])
-    forms = [(["x"] * len(turns), chance.choice(TEXTS))] if turns and chance.random() < 0.6 else []
-    return Page(chance.choice(TEXTS), rule=chance.choice(RULES), turns=turns, forms=forms,
-                tags=chance.choice([[], [], ["t"], ["t", "u"]]), weak=chance.random() < 0.3)
 
 
 class Row:
